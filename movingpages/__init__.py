@@ -1,0 +1,1 @@
+"""Movingpages: pages of a list whose order keeps changing."""

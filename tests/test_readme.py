@@ -1,0 +1,14 @@
+"""The examples of the README."""
+
+import doctest
+import unittest
+from pathlib import Path
+
+README = Path(__file__).resolve().parent.parent / "README.md"
+
+
+class ReadmeTest(unittest.TestCase):
+    def test_examples(self):
+        failed, tried = doctest.testfile(str(README), module_relative=False)
+        self.assertEqual(failed, 0)
+        self.assertGreater(tried, 0)
