@@ -54,3 +54,18 @@ def is_row_set(history, value):
 def live_rows_among(history, rows):
     """Return the row set of the live rows that are among these values."""
     return tuple([row for row in live_rows(history) if row in rows])
+
+
+def is_subset(one, other):
+    """Return whether every row of one row set is in the other one."""
+    return len(set(one) - set(other)) == 0
+
+
+def in_canonical_order(row_sets):
+    """Return the tuple of these row sets, sorted by their number of rows, then as tuples."""
+    return tuple(sorted(row_sets, key=canonical_place))
+
+
+def canonical_place(rows):
+    """Return what the canonical order compares."""
+    return (len(rows), rows)

@@ -38,11 +38,64 @@ def letters_rows(many):
     return tuple((list(letters) + ["a" + letter for letter in letters])[:many])
 
 
+def variants(value, change):
+    """Return the values that differ from this one in one part, itself or an item at any depth.
+
+    The function change returns a list of what may stand in place of the part.
+    """
+    found = list(change(value))
+    if isinstance(value, tuple):
+        for place, item in enumerate(value):
+            for new in variants(item, change):
+                found.append(value[:place] + (new,) + value[place + 1:])
+    return found
+
+
+def as_list(part):
+    """Change a tuple into a list."""
+    return [list(part)] if isinstance(part, tuple) else []
+
+
+def as_bool(part):
+    """Change a number that True or False equals into it."""
+    return [bool(part)] if part.__class__ is int and part in (0, 1) else []
+
+
+def as_other_number(part):
+    """Change a number into its neighbours, its negative, and numbers far away."""
+    return [part - 1, part + 1, -part - 1, part - 40, part + 40, 10 ** 20] if part.__class__ is int else []
+
+
+def as_other_items(part):
+    """Leave an item of a tuple out, repeat it, exchange it with the next one, add one."""
+    if not isinstance(part, tuple):
+        return []
+    found = [part + ("a",), part + (0,), part + ((),), ("a",) + part, part + part, tuple(reversed(part))]
+    for place in range(len(part)):
+        found.append(part[:place] + part[place + 1:])
+        found.append(part[:place] + part[place:place + 1] * 2 + part[place + 1:])
+        found.append(part[:place] + part[place + 1:place + 2] + part[place:place + 1] + part[place + 2:])
+    return found
+
+
+def as_other_row(part):
+    """Change a row into others: some live, some that have left, some never in a list."""
+    return ["a", "b", "c", "x", "zz", "", "A"] if isinstance(part, str) else []
+
+
+def as_any_value(part):
+    """Change whatever it is into any value."""
+    return any_values()
+
+
+CHANGES = [as_list, as_bool, as_other_number, as_other_items, as_other_row, as_any_value]
+
+
 class PagesTest(unittest.TestCase):
-    def assert_raises_with(self, error, field, value, function, *arguments):
+    def assert_raises_with(self, error, field, value, function, *arguments, **named):
         """Check that the call raises exactly this error, with exactly this value in its field."""
         try:
-            result = function(*arguments)
+            result = function(*arguments, **named)
         except ValueError as raised:
             self.assertEqual(raised.__class__.__name__, error.__name__)
             self.assertIs(raised.__class__, error)

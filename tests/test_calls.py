@@ -2,10 +2,17 @@
 
 from copy import deepcopy
 
+from movingpages.chains import find_antichain, find_chains, shows_antichain, shows_chains, width_of
 from movingpages.edits import extend_history, insert_row, move_row, remove_row
 from movingpages.errors import PagesError
+from movingpages.paths import all_paths, beginning_of, is_path, paths_to
+from movingpages.reach import all_reachable, greatest_reachable, last_rows, next_rows, schedule_for
 from movingpages.requests import is_schedule, page_of, run_schedule, sent_live
 from movingpages.rows import is_history, is_row, is_row_set, is_version, live_rows
+from movingpages.states import (
+    find_blockers, find_supports, is_reachable, prefix_lengths, shows_reachable, shows_unreachable,
+)
+from tests.histories import DOCUMENT, EDGES, row_sets_of
 from tests.samples import PagesTest, any_values, nested
 
 HISTORY = (("a", "b", "c"), ("c", "b"))
@@ -46,8 +53,57 @@ def calls():
             (extend_history, {"history": HISTORY, "edit": ("insert", value, value)}),
             (extend_history, {"history": HISTORY, "edit": ("remove", value)}),
             (extend_history, {"history": HISTORY, "edit": ("move", "b", value)}),
+            (is_reachable, {"history": HISTORY, "rows": value}),
+            (shows_reachable, {"history": HISTORY, "rows": ("b", "c"), "certificate": value}),
+            (shows_reachable, {"history": HISTORY, "rows": ("b", "c"), "certificate": (value, 1)}),
+            (shows_unreachable, {"history": HISTORY, "rows": ("b",), "certificate": value}),
+            (shows_unreachable, {"history": HISTORY, "rows": ("b",), "certificate": ("b", value)}),
+            (beginning_of, {"history": HISTORY, "index": 1, "row": value}),
+            (paths_to, {"history": HISTORY, "row": value}),
+            (is_path, {"history": HISTORY, "value": value}),
+            (shows_antichain, {"history": HISTORY, "value": value}),
+            (shows_antichain, {"history": HISTORY, "value": (value, ("b",))}),
+            (shows_chains, {"history": HISTORY, "value": value}),
+            (shows_chains, {"history": HISTORY, "value": ((value, ("b",)), (("c",),))}),
         ]
+    for history in [HISTORY, DOCUMENT, *EDGES.values()]:
+        some += calls_of_history(history)
     return some
+
+
+def calls_of_history(history):
+    """Return calls of the functions that take a history, for all of its row sets."""
+    some = [
+        (all_reachable, {"history": history}),
+        (all_reachable, {"history": history, "most": 3}),
+        (all_reachable, {"history": history, "most": 2001}),
+        (all_paths, {"history": history}),
+        (width_of, {"history": history}),
+        (find_antichain, {"history": history}),
+        (find_chains, {"history": history}),
+        (shows_antichain, {"history": history, "value": find_antichain(history)}),
+        (shows_chains, {"history": history, "value": find_chains(history)}),
+        (is_path, {"history": history, "value": ("a", "b")}),
+    ]
+    for row in history[-1]:
+        some.append((beginning_of, {"history": history, "index": len(history) - 1, "row": row}))
+        some.append((beginning_of, {"history": history, "index": 0, "row": row}))
+        some.append((paths_to, {"history": history, "row": row}))
+    takers = [
+        prefix_lengths, is_reachable, find_supports, find_blockers, greatest_reachable, next_rows, last_rows,
+        schedule_for,
+    ]
+    for rows in row_sets_of(history):
+        some += [(function, {"history": history, "rows": rows}) for function in takers]
+        for find, shows in [(find_supports, shows_reachable), (find_blockers, shows_unreachable)]:
+            some.append((shows, {"history": history, "rows": rows, "certificate": find(history, rows)}))
+    return some
+
+
+def by_position(named):
+    """Return the arguments that are passed by position, and those that are passed by keyword alone."""
+    positional = [value for name, value in named.items() if name != "most"]
+    return positional, {name: value for name, value in named.items() if name == "most"}
 
 
 def outcome(function, *arguments, **named):
@@ -61,10 +117,11 @@ def outcome(function, *arguments, **named):
 class CallsTest(PagesTest):
     def test_by_position_and_by_name(self):
         for function, named in calls():
-            by_position = outcome(function, *named.values())
-            self.assertEqual(outcome(function, **named), by_position)
+            positional, keywords = by_position(named)
+            expected = outcome(function, *positional, **keywords)
+            self.assertEqual(outcome(function, **named), expected)
             backwards = dict(reversed(list(named.items())))
-            self.assertEqual(outcome(function, **backwards), by_position)
+            self.assertEqual(outcome(function, **backwards), expected)
 
     def test_arguments_are_unchanged(self):
         for function, named in calls():
@@ -82,5 +139,10 @@ class CallsTest(PagesTest):
         row = nested("mixed", 30)
         for function, arguments in [(insert_row, (VERSION, row, 0)), (remove_row, (VERSION, row))]:
             self.assertIs(outcome(function, *arguments)[1]["row"], row)
+        for function, arguments in [(paths_to, (HISTORY, row)), (beginning_of, (HISTORY, 0, row))]:
+            self.assertIs(outcome(function, *arguments)[1]["row"], row)
+        for function in (next_rows, last_rows, schedule_for):
+            rows = tuple(["b"])
+            self.assertIs(outcome(function, (("c", "b"),), rows)[1]["rows"], rows)
         edit = ("insert", row)
         self.assertIs(outcome(extend_history, HISTORY, edit)[1]["edit"], edit)

@@ -1,10 +1,18 @@
-"""The examples e01 to e14 of the document."""
+"""The examples e01 to e33 and e59 of the document."""
 
+from movingpages.chains import find_antichain, find_chains, shows_antichain, shows_chains, width_of
 from movingpages.edits import extend_history, insert_row, move_row, remove_row
-from movingpages.errors import DuplicateRow, ReturnedRow
+from movingpages.errors import DuplicateRow, ReturnedRow, TooMany, Unreachable
+from movingpages.paths import all_paths, beginning_of, is_path, paths_to
+from movingpages.reach import all_reachable, greatest_reachable, last_rows, next_rows, schedule_for
 from movingpages.requests import is_schedule, page_of, run_schedule, sent_live
 from movingpages.rows import is_history, is_row, is_row_set, is_version, live_rows
+from movingpages.states import (
+    find_blockers, find_supports, is_reachable, prefix_lengths, shows_reachable, shows_unreachable,
+)
 from tests.samples import PagesTest
+
+HISTORY = (("a", "b", "c", "d"), ("b", "a", "c", "d"), ("a", "b", "d", "c"))
 
 
 class ExamplesTest(PagesTest):
@@ -57,3 +65,86 @@ class ExamplesTest(PagesTest):
 
     def test_e14(self):
         self.assertEqual(sent_live((("a", "b", "c"), ("c", "b")), ((0, 2),)), ("b",))
+
+    def test_e15(self):
+        self.assertEqual(prefix_lengths(HISTORY, ("a", "b", "d")), (2, 2, 3))
+
+    def test_e16(self):
+        told = [is_reachable(HISTORY, value) for value in [("a", "b", "d"), ("a", "c"), (), ["a"]]]
+        self.assertEqual(told, [True, False, True, False])
+
+    def test_e17(self):
+        self.assertEqual(find_supports(HISTORY, ("a", "b", "d")), (0, 0, 2))
+
+    def test_e18(self):
+        told = [
+            shows_reachable(HISTORY, ("a", "b"), (2, 1)),
+            shows_reachable(HISTORY, ("a", "b"), (1,)),
+            shows_reachable(HISTORY, ("a", "c"), (0, 2)),
+        ]
+        self.assertEqual(told, [True, False, False])
+
+    def test_e19(self):
+        self.assertEqual(find_blockers(HISTORY, ("a", "c")), ("c", ((0, "b"), (1, "b"), (2, "b"))))
+
+    def test_e20(self):
+        told = [
+            shows_unreachable(HISTORY, ("c",), ("c", ((0, "b"), (1, "a"), (2, "d")))),
+            shows_unreachable(HISTORY, ("c",), ("c", ((0, "b"), (1, "a")))),
+        ]
+        self.assertEqual(told, [True, False])
+
+    def test_e21(self):
+        self.assertEqual(greatest_reachable(HISTORY, ("a", "c", "d")), ("a",))
+
+    def test_e22(self):
+        self.assertEqual(next_rows(HISTORY, ("a", "b")), ("c", "d"))
+        self.assertEqual(last_rows(HISTORY, ("a", "b")), ("a", "b"))
+        self.assertEqual(last_rows(HISTORY, ("a", "b", "c")), ("c",))
+
+    def test_e23(self):
+        self.assert_raises_with(Unreachable, "rows", ("d",), next_rows, HISTORY, ("d",))
+
+    def test_e24(self):
+        self.assertEqual(schedule_for(HISTORY, ("a", "b", "d")), ((0, 2), (1, 0), (2, 1)))
+
+    def test_e25(self):
+        expected = ((), ("a",), ("b",), ("a", "b"), ("a", "b", "c"), ("a", "b", "d"), ("a", "b", "c", "d"))
+        self.assertEqual(all_reachable(HISTORY), expected)
+
+    def test_e26(self):
+        self.assert_raises_with(TooMany, "most", 6, all_reachable, HISTORY, most=6)
+
+    def test_e27(self):
+        self.assertEqual(beginning_of(HISTORY, 2, "d"), ("a", "b", "d"))
+
+    def test_e28(self):
+        self.assertEqual(paths_to(HISTORY, "b"), (("b",),))
+        self.assertEqual(paths_to(HISTORY, "c"), (("a", "b", "c"),))
+
+    def test_e29(self):
+        expected = (("a", ("a",)), ("b", ("b",)), ("c", ("a", "b", "c")), ("d", ("a", "b", "d")))
+        self.assertEqual(all_paths(HISTORY), expected)
+
+    def test_e30(self):
+        told = [is_path(HISTORY, value) for value in [("a", "b", "d"), ("a", "b"), "b"]]
+        self.assertEqual(told, [True, False, False])
+
+    def test_e31(self):
+        self.assertEqual(width_of(HISTORY), 2)
+
+    def test_e32(self):
+        antichain, chains = find_antichain(HISTORY), find_chains(HISTORY)
+        self.assertEqual([len(antichain), len(chains)], [2, 2])
+        self.assertEqual([shows_antichain(HISTORY, antichain), shows_chains(HISTORY, chains)], [True, True])
+
+    def test_e33(self):
+        told = [
+            shows_antichain(HISTORY, (("b",), ("a",))),
+            shows_antichain(HISTORY, (("b",),)),
+            shows_chains(HISTORY, ((("a",), ("a", "b", "c")), (("b",), ("a", "b", "d")))),
+        ]
+        self.assertEqual(told, [False, True, True])
+
+    def test_e59(self):
+        self.assertEqual(prefix_lengths((("a", "x", "b"), ("b", "a")), ("a",)), (2, 0))

@@ -42,6 +42,22 @@ def bound_names(tree):
     return names
 
 
+def imported_files(tree):
+    """Return the names of the package's modules that the file imports from, without the package's name."""
+    return [node.module.split(".")[1] for node in tree.body if isinstance(node, ast.ImportFrom)]
+
+
+def names_in_functions(tree):
+    """Return the parameters and local variables of all functions of the file."""
+    names = []
+    for node in ast.walk(tree):
+        if isinstance(node, ast.FunctionDef):
+            names += [inner.arg for inner in ast.walk(node) if isinstance(inner, ast.arg)]
+            names += [inner.id for inner in ast.walk(node)
+                      if isinstance(inner, ast.Name) and isinstance(inner.ctx, ast.Store)]
+    return names
+
+
 class LanguageTest(unittest.TestCase):
     def setUp(self):
         self.texts = {path.name: path.read_text("utf-8") for path in sorted(PACKAGE.glob("*.py"))}
@@ -84,6 +100,38 @@ class LanguageTest(unittest.TestCase):
                     self.assertEqual(node.level, 0, name)
                     self.assertRegex(node.module, r"\Amovingpages\.[a-z]+\Z", name)
                     self.assertIn(node.module.split(".")[1] + ".py", self.texts, name)
+
+    def test_imports_name_the_file_that_defines_the_name(self):
+        for name, tree in self.trees.items():
+            for node in tree.body:
+                if isinstance(node, ast.ImportFrom):
+                    source = self.trees[node.module.split(".")[1] + ".py"]
+                    defined = []
+                    for inner in source.body:
+                        if isinstance(inner, (ast.FunctionDef, ast.ClassDef)):
+                            defined.append(inner.name)
+                        if isinstance(inner, ast.Assign):
+                            defined += [target.id for target in inner.targets]
+                    for alias in node.names:
+                        self.assertIn(alias.name, defined, name)
+
+    def test_no_two_files_import_from_each_other(self):
+        left = {name[:-3]: imported_files(tree) for name, tree in self.trees.items()}
+        while left:
+            free = [name for name in left if not any(other in left for other in left[name])]
+            self.assertNotEqual(free, [], left)
+            for name in free:
+                del left[name]
+
+    def test_local_names_hide_nothing(self):
+        for name, tree in self.trees.items():
+            taken = dir(builtins)
+            for node in tree.body:
+                if isinstance(node, ast.ImportFrom):
+                    taken += [alias.name for alias in node.names]
+                if isinstance(node, ast.ClassDef):
+                    taken.append(node.name)
+            self.assertEqual([local for local in names_in_functions(tree) if local in taken], [], name)
 
     def test_statements_and_builtins(self):
         for name, tree in self.trees.items():
