@@ -6,7 +6,7 @@ Paths are numbered here as path_sets lists them.
 """
 
 from movingpages.paths import path_sets
-from movingpages.rows import in_canonical_order, is_subset
+from movingpages.rows import in_canonical_order, is_subset, sets_grow
 
 
 def width_of(history):
@@ -112,9 +112,7 @@ def shows_chains(history, value):
 
 def is_chain(paths, value):
     """Return whether any value is a chain of some of these paths."""
-    if not is_tuple_of_paths(paths, value) or len(value) == 0:
-        return False
-    return all([one != other and is_subset(one, other) for one, other in zip(value, value[1:])])
+    return is_tuple_of_paths(paths, value) and len(value) > 0 and sets_grow(value)
 
 
 def is_tuple_of_paths(paths, value):

@@ -61,6 +61,11 @@ def is_subset(one, other):
     return len(set(one) - set(other)) == 0
 
 
+def sets_grow(row_sets):
+    """Return whether each of these row sets is a proper subset of the next one."""
+    return all([one != other and is_subset(one, other) for one, other in zip(row_sets, row_sets[1:])])
+
+
 def in_canonical_order(row_sets):
     """Return the tuple of these row sets, sorted by their number of rows, then as tuples."""
     return tuple(sorted(row_sets, key=canonical_place))

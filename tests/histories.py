@@ -112,6 +112,24 @@ def canonical(row_sets):
     return tuple(sorted(row_sets, key=lambda rows: (len(rows), rows)))
 
 
+def prefix_sets_of(order):
+    """Return the sets of the first 0, 1, 2, ... rows of the order."""
+    return [tuple(sorted(order[:many])) for many in range(len(order) + 1)]
+
+
+def unions_of_choices(places):
+    """Return the sets that have one of the sets of each place, in canonical order."""
+    unions = {()}
+    for place in places:
+        unions = {tuple(sorted({*union, *rows})) for union in unions for rows in place}
+    return canonical(unions)
+
+
+def unions_of(orders):
+    """Return the unions of one prefix set of each order, in canonical order."""
+    return unions_of_choices([prefix_sets_of(order) for order in orders])
+
+
 def row_sets_of(history):
     """Return all row sets of the history."""
     live = sorted(history[-1])

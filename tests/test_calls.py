@@ -3,21 +3,26 @@
 from copy import deepcopy
 
 from movingpages.chains import find_antichain, find_chains, shows_antichain, shows_chains, width_of
+from movingpages.compare import reach_gap, same_reach
 from movingpages.edits import extend_history, insert_row, move_row, remove_row
 from movingpages.errors import PagesError
+from movingpages.orders import order_gap, order_through, smallest_orders
 from movingpages.paths import all_paths, beginning_of, is_path, paths_to
 from movingpages.reach import all_reachable, greatest_reachable, last_rows, next_rows, schedule_for
 from movingpages.requests import is_schedule, page_of, run_schedule, sent_live
 from movingpages.rows import is_history, is_row, is_row_set, is_version, live_rows
+from movingpages.schemes import is_scheme, scheme_gap, scheme_of
 from movingpages.states import (
     find_blockers, find_supports, is_reachable, prefix_lengths, shows_reachable, shows_unreachable,
 )
+from movingpages.tokens import decode_token, encode_state, merge_tokens, normalize_token, send_page
 from tests.histories import DOCUMENT, EDGES, row_sets_of
 from tests.samples import PagesTest, any_values, nested
 
 HISTORY = (("a", "b", "c"), ("c", "b"))
 VERSION = ("c", "b", "d")
 SCHEDULE = ((0, 2), (1, 1), (1, 1000))
+ORDERS = (("a", "b", "c", "d"), ("b", "a", "d", "c"))
 
 
 def calls():
@@ -65,10 +70,29 @@ def calls():
             (shows_antichain, {"history": HISTORY, "value": (value, ("b",))}),
             (shows_chains, {"history": HISTORY, "value": value}),
             (shows_chains, {"history": HISTORY, "value": ((value, ("b",)), (("c",),))}),
+            (order_through, {"history": HISTORY, "chain": value}),
+            (order_through, {"history": HISTORY, "chain": (value, ("b", "c"))}),
+            (is_scheme, {"value": value}),
+            (is_scheme, {"value": (((), value),)}),
         ]
+        some += calls_of_token(value)
+        some += calls_of_token((value, 1))
+    for token in [(0, 0), (1, 3), (2, 3), (4, 0), (0, 5)]:
+        some += calls_of_token(token)
     for history in [HISTORY, DOCUMENT, *EDGES.values()]:
         some += calls_of_history(history)
     return some
+
+
+def calls_of_token(token):
+    """Return calls of the functions that take a token, for any value as the token."""
+    return [
+        (decode_token, {"orders": ORDERS, "token": token}),
+        (normalize_token, {"orders": ORDERS, "token": token}),
+        (merge_tokens, {"orders": ORDERS, "one": token, "other": (0, 1)}),
+        (merge_tokens, {"orders": ORDERS, "one": (1, 0), "other": token}),
+        (send_page, {"orders": ORDERS, "version": ("b", "a", "d", "c"), "token": token, "count": 2}),
+    ]
 
 
 def calls_of_history(history):
@@ -84,7 +108,18 @@ def calls_of_history(history):
         (shows_antichain, {"history": history, "value": find_antichain(history)}),
         (shows_chains, {"history": history, "value": find_chains(history)}),
         (is_path, {"history": history, "value": ("a", "b")}),
+        (smallest_orders, {"history": history}),
+        (order_gap, {"history": history, "orders": smallest_orders(history)}),
+        (order_gap, {"history": history, "orders": (history[-1], tuple(reversed(history[-1])))}),
+        (scheme_of, {"orders": history}),
+        (scheme_gap, {"history": history, "scheme": scheme_of(history)}),
+        (scheme_gap, {"history": history, "scheme": (((), ("a",)), (("b",), ("a", "b")))}),
     ]
+    some += [(order_through, {"history": history, "chain": chain}) for chain in find_chains(history)]
+    for function in (same_reach, reach_gap):
+        some.append((function, {"one": history, "other": history[-1:]}))
+        some.append((function, {"one": history[-1:], "other": history}))
+        some.append((function, {"one": history, "other": DOCUMENT}))
     for row in history[-1]:
         some.append((beginning_of, {"history": history, "index": len(history) - 1, "row": row}))
         some.append((beginning_of, {"history": history, "index": 0, "row": row}))
@@ -94,6 +129,7 @@ def calls_of_history(history):
         schedule_for,
     ]
     for rows in row_sets_of(history):
+        some.append((encode_state, {"orders": history, "rows": rows}))
         some += [(function, {"history": history, "rows": rows}) for function in takers]
         for find, shows in [(find_supports, shows_reachable), (find_blockers, shows_unreachable)]:
             some.append((shows, {"history": history, "rows": rows, "certificate": find(history, rows)}))
@@ -144,5 +180,7 @@ class CallsTest(PagesTest):
         for function in (next_rows, last_rows, schedule_for):
             rows = tuple(["b"])
             self.assertIs(outcome(function, (("c", "b"),), rows)[1]["rows"], rows)
+        self.assertIs(outcome(order_through, HISTORY, row)[1]["chain"], row)
+        self.assertIs(outcome(decode_token, ORDERS, row)[1]["token"], row)
         edit = ("insert", row)
         self.assertIs(outcome(extend_history, HISTORY, edit)[1]["edit"], edit)

@@ -1,18 +1,25 @@
-"""The examples e01 to e33 and e59 of the document."""
+"""The examples e01 to e47 and e59 of the document."""
 
 from movingpages.chains import find_antichain, find_chains, shows_antichain, shows_chains, width_of
+from movingpages.compare import reach_gap, same_reach
 from movingpages.edits import extend_history, insert_row, move_row, remove_row
-from movingpages.errors import DuplicateRow, ReturnedRow, TooMany, Unreachable
+from movingpages.errors import (
+    BadChain, BadToken, DifferentLists, DuplicateRow, ReturnedRow, TooMany, Unreachable,
+)
+from movingpages.orders import order_gap, order_through, smallest_orders
 from movingpages.paths import all_paths, beginning_of, is_path, paths_to
 from movingpages.reach import all_reachable, greatest_reachable, last_rows, next_rows, schedule_for
 from movingpages.requests import is_schedule, page_of, run_schedule, sent_live
 from movingpages.rows import is_history, is_row, is_row_set, is_version, live_rows
+from movingpages.schemes import is_scheme, scheme_gap, scheme_of
 from movingpages.states import (
     find_blockers, find_supports, is_reachable, prefix_lengths, shows_reachable, shows_unreachable,
 )
+from movingpages.tokens import decode_token, encode_state, merge_tokens, normalize_token, send_page
 from tests.samples import PagesTest
 
 HISTORY = (("a", "b", "c", "d"), ("b", "a", "c", "d"), ("a", "b", "d", "c"))
+ORDERS = (("a", "b", "c", "d"), ("b", "a", "d", "c"))
 
 
 class ExamplesTest(PagesTest):
@@ -145,6 +152,69 @@ class ExamplesTest(PagesTest):
             shows_chains(HISTORY, ((("a",), ("a", "b", "c")), (("b",), ("a", "b", "d")))),
         ]
         self.assertEqual(told, [False, True, True])
+
+    def test_e34(self):
+        self.assertEqual(order_through(HISTORY, (("b",), ("a", "b", "d"))), ("b", "a", "d", "c"))
+
+    def test_e35(self):
+        chain = (("a", "b"), ("b",))
+        self.assert_raises_with(BadChain, "chain", chain, order_through, HISTORY, chain)
+
+    def test_e36(self):
+        orders = smallest_orders(HISTORY)
+        self.assertEqual([len(orders), order_gap(HISTORY, orders)], [2, None])
+
+    def test_e37(self):
+        told = [
+            order_gap(HISTORY, (("a", "b", "c", "d"), ("b", "a", "d", "c"))),
+            order_gap(HISTORY, (("a", "b", "c", "d"),)),
+            order_gap(HISTORY, (("b", "c"), ("c",))),
+        ]
+        self.assertEqual(told, [None, ("missing", ("b",)), ("extra", ("b", "c"))])
+
+    def test_e38(self):
+        self.assertEqual(encode_state(ORDERS, ("a", "b", "d")), (2, 3))
+        self.assertEqual(encode_state(ORDERS, ("a", "c")), (1, 0))
+
+    def test_e39(self):
+        self.assertEqual(decode_token(ORDERS, (1, 3)), ("a", "b", "d"))
+        self.assertEqual(normalize_token(ORDERS, (1, 3)), (2, 3))
+
+    def test_e40(self):
+        self.assert_raises_with(BadToken, "token", (1, 5), decode_token, ORDERS, (1, 5))
+
+    def test_e41(self):
+        self.assertEqual(merge_tokens(ORDERS, (3, 2), (2, 3)), (4, 4))
+
+    def test_e42(self):
+        self.assertEqual(send_page(ORDERS, ("a", "b", "d", "c"), (1, 0), 2), (("b", "d"), (2, 3)))
+
+    def test_e43(self):
+        told = [is_scheme(value) for value in [(((), ("a",)), ((),)), (((), ("b", "a")),), ((),), ()]]
+        self.assertEqual(told, [True, False, False, True])
+
+    def test_e44(self):
+        self.assertEqual(scheme_of((("b", "a"),)), (((), ("b",), ("a", "b")),))
+
+    def test_e45(self):
+        history = (("a", "b"), ("b", "a"))
+        told = [
+            scheme_gap(history, (((), ("a",)), ((), ("b",)))),
+            scheme_gap(history, (((), ("a", "b")),)),
+            scheme_gap(history, ((("a",),),)),
+            scheme_gap(history, (((), ("c",)),)),
+        ]
+        self.assertEqual(told, [None, ("missing", ("a",)), ("missing", ()), ("extra", ("c",))])
+
+    def test_e46(self):
+        one, other = (("a", "b"), ("b", "a")), (("b", "a"),)
+        self.assertIs(same_reach(one, other), False)
+        told = [reach_gap(one, other), reach_gap(other, one), reach_gap(one, one)]
+        self.assertEqual(told, [(0, ("a",)), (1, ("a",)), None])
+
+    def test_e47(self):
+        last = ("b", "a")
+        self.assert_raises_with(DifferentLists, "version", last, same_reach, (("a", "b"),), (last,))
 
     def test_e59(self):
         self.assertEqual(prefix_lengths((("a", "x", "b"), ("b", "a")), ("a",)), (2, 0))
