@@ -9,6 +9,7 @@ from movingpages.errors import PagesError
 from movingpages.orders import order_gap, order_through, smallest_orders
 from movingpages.paths import all_paths, beginning_of, is_path, paths_to
 from movingpages.reach import all_reachable, greatest_reachable, last_rows, next_rows, schedule_for
+from movingpages.reading import read_feed, read_history
 from movingpages.requests import is_schedule, page_of, run_schedule, sent_live
 from movingpages.rows import is_history, is_row, is_row_set, is_version, live_rows
 from movingpages.schemes import is_scheme, scheme_gap, scheme_of
@@ -16,6 +17,7 @@ from movingpages.states import (
     find_blockers, find_supports, is_reachable, prefix_lengths, shows_reachable, shows_unreachable,
 )
 from movingpages.tokens import decode_token, encode_state, merge_tokens, normalize_token, send_page
+from movingpages.writing import write_feed, write_history
 from tests.histories import DOCUMENT, EDGES, row_sets_of
 from tests.samples import PagesTest, any_values, nested
 
@@ -74,11 +76,15 @@ def calls():
             (order_through, {"history": HISTORY, "chain": (value, ("b", "c"))}),
             (is_scheme, {"value": value}),
             (is_scheme, {"value": (((), value),)}),
+            (read_history, {"text": value}),
+            (read_feed, {"text": value}),
         ]
         some += calls_of_token(value)
         some += calls_of_token((value, 1))
     for token in [(0, 0), (1, 3), (2, 3), (4, 0), (0, 5)]:
         some += calls_of_token(token)
+    for text in ["list -\nnext 0", "list b a\norder a b\norder b a\nnext 5\ndevice 2 1 0"]:
+        some += [(read_feed, {"text": text}), (write_feed, {"feed": read_feed(text)})]
     for history in [HISTORY, DOCUMENT, *EDGES.values()]:
         some += calls_of_history(history)
     return some
@@ -108,6 +114,8 @@ def calls_of_history(history):
         (shows_antichain, {"history": history, "value": find_antichain(history)}),
         (shows_chains, {"history": history, "value": find_chains(history)}),
         (is_path, {"history": history, "value": ("a", "b")}),
+        (write_history, {"history": history}),
+        (read_history, {"text": write_history(history)}),
         (smallest_orders, {"history": history}),
         (order_gap, {"history": history, "orders": smallest_orders(history)}),
         (order_gap, {"history": history, "orders": (history[-1], tuple(reversed(history[-1])))}),

@@ -1,14 +1,17 @@
-"""The examples e01 to e47 and e59 of the document."""
+"""The examples e01 to e59 of the document."""
 
 from movingpages.chains import find_antichain, find_chains, shows_antichain, shows_chains, width_of
 from movingpages.compare import reach_gap, same_reach
+from movingpages.desk import Desk
 from movingpages.edits import extend_history, insert_row, move_row, remove_row
 from movingpages.errors import (
-    BadChain, BadToken, DifferentLists, DuplicateRow, ReturnedRow, TooMany, Unreachable,
+    BadChain, BadLine, BadText, BadToken, DifferentLists, DuplicateRow, NoDevice, ReturnedRow, TooMany, Unreachable,
 )
+from movingpages.feed import Feed
 from movingpages.orders import order_gap, order_through, smallest_orders
 from movingpages.paths import all_paths, beginning_of, is_path, paths_to
 from movingpages.reach import all_reachable, greatest_reachable, last_rows, next_rows, schedule_for
+from movingpages.reading import read_feed, read_history
 from movingpages.requests import is_schedule, page_of, run_schedule, sent_live
 from movingpages.rows import is_history, is_row, is_row_set, is_version, live_rows
 from movingpages.schemes import is_scheme, scheme_gap, scheme_of
@@ -16,6 +19,7 @@ from movingpages.states import (
     find_blockers, find_supports, is_reachable, prefix_lengths, shows_reachable, shows_unreachable,
 )
 from movingpages.tokens import decode_token, encode_state, merge_tokens, normalize_token, send_page
+from movingpages.writing import write_feed, write_history
 from tests.samples import PagesTest
 
 HISTORY = (("a", "b", "c", "d"), ("b", "a", "c", "d"), ("a", "b", "d", "c"))
@@ -215,6 +219,58 @@ class ExamplesTest(PagesTest):
     def test_e47(self):
         last = ("b", "a")
         self.assert_raises_with(DifferentLists, "version", last, same_reach, (("a", "b"),), (last,))
+
+    def test_e48(self):
+        feed = Feed(("a", "b", "c", "d"))
+        device = feed.open_device()
+        told = [feed.page(device, 1), feed.move("d", 0), feed.page(device, 2), feed.state_of(device)]
+        self.assertEqual(told, [("a",), ("d", "a", "b", "c"), ("d", "b"), ("a", "b", "d")])
+        self.assertEqual(feed.orders(), (("a", "b", "c", "d"), ("d", "a", "b", "c")))
+        self.assertEqual(feed.token_of(device), (2, 3))
+
+    def test_e49(self):
+        feed = Feed(("a", "b", "c"))
+        one = feed.open_device()
+        told = [feed.page(one, 2), feed.lose(one, ("a",)), feed.state_of(one), feed.page(one, 3)]
+        self.assertEqual(told, [("a", "b"), ("a", "b"), (), ("a", "b", "c")])
+
+    def test_e50(self):
+        feed = Feed(("a", "b", "c", "d"))
+        for row, index in [("b", 0), ("a", 0), ("d", 2)]:
+            feed.move(row, index)
+        told = [len(feed.orders()), feed.compact(), len(feed.orders()), feed.current_version()]
+        self.assertEqual(told, [3, 2, 2, ("a", "b", "d", "c")])
+
+    def test_e51(self):
+        self.assert_raises_with(NoDevice, "device", 3, Feed(("a",)).page, 3, 1)
+
+    def test_e52(self):
+        self.assertEqual(write_history((("b", "a"), (), ("c",))), "b a\n-\nc")
+
+    def test_e53(self):
+        self.assert_raises_with(BadText, "line", 2, read_history, "b a\nb\na b")
+
+    def test_e54(self):
+        feed = Feed(("a", "b"))
+        feed.page(feed.open_device(), 1)
+        self.assertEqual(write_feed(feed), "list a b\norder a b\nnext 1\ndevice 0 1")
+
+    def test_e55(self):
+        feed = read_feed("list b a\norder a b\norder b a\nnext 5\ndevice 2 1 0")
+        self.assertEqual([feed.state_of(2), feed.page(2, 1), feed.open_device()], [("a",), ("b",), 5])
+
+    def test_e56(self):
+        self.assert_raises_with(BadText, "line", 2, read_feed, "list b a\norder a b\nnext 0")
+
+    def test_e57(self):
+        desk = Desk()
+        first = [desk.say(line) for line in ("insert b 0", "insert a 0", "open", "page 0 1")]
+        second = [desk.say(line) for line in ("move b 0", "orders", "page 0 5", "token 0", "width")]
+        self.assertEqual(first, ["b", "a b", "0", "a"])
+        self.assertEqual(second, ["b a", "b | a b | b a", "b", "1 2 2", "2"])
+
+    def test_e58(self):
+        self.assert_raises_with(BadLine, "line", "page 0", Desk().say, "page 0")
 
     def test_e59(self):
         self.assertEqual(prefix_lengths((("a", "x", "b"), ("b", "a")), ("a",)), (2, 0))

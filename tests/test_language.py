@@ -151,10 +151,33 @@ class LanguageTest(unittest.TestCase):
                 if isinstance(node, ast.Expr):
                     self.assertEqual(at, 0, name)
 
+    def test_methods_and_attributes_have_different_names(self):
+        methods, attributes = [], []
+        for tree in self.trees.values():
+            for node in ast.walk(tree):
+                if isinstance(node, ast.ClassDef):
+                    methods += [inner.name for inner in node.body if isinstance(inner, ast.FunctionDef)]
+                if isinstance(node, ast.Attribute) and isinstance(node.ctx, ast.Store):
+                    attributes.append(node.attr)
+        self.assertIn("insert", methods)
+        self.assertIn("rows", attributes)
+        self.assertEqual(set(methods) & set(attributes), set())
+
+    def test_methods_are_called_by_position_and_not_passed_on(self):
+        for name, tree in self.trees.items():
+            called = [node.func for node in ast.walk(tree) if isinstance(node, ast.Call)]
+            for node in ast.walk(tree):
+                if isinstance(node, ast.Call) and isinstance(node.func, ast.Attribute):
+                    self.assertEqual(node.keywords, [], name)
+                    self.assertNotEqual(node.func.attr, "sort", name)
+                if isinstance(node, ast.Attribute) and node.attr in ("insert", "remove", "copy", "append", "split"):
+                    self.assertIn(node, called, name)
+
     def test_any_and_all_take_a_list(self):
-        # A class with __eq__ will join the package, and then generator expressions are barred here.
+        # Feed has __eq__, and then generator expressions are barred here.
+        takers = ("any", "all", "sum", "min", "max", "sorted")
         for name, tree in self.trees.items():
             for node in ast.walk(tree):
-                if isinstance(node, ast.Call) and getattr(node.func, "id", "") in ("any", "all", "sum", "min", "max"):
+                if isinstance(node, ast.Call) and getattr(node.func, "id", "") in takers:
                     for argument in node.args:
                         self.assertNotIsInstance(argument, ast.GeneratorExp, name)
