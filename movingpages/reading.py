@@ -3,7 +3,7 @@
 from movingpages.errors import BadText
 from movingpages.feed import MOST_DEVICES, feed_in_situation
 from movingpages.orders import prefix_sets
-from movingpages.rows import is_history, is_row, is_subset, is_version
+from movingpages.rows import is_history, is_subset, is_version
 from movingpages.tokens import decode_token, encode_state, is_normal_token
 
 MOST_DIGITS = 6
@@ -13,7 +13,7 @@ def read_history(text):
     """Return the history that the text describes."""
     history = ()
     for number, line in enumerate(lines_of(text)):
-        history = history + (read_rows(line.split(" ")),)
+        history = history + (read_version(line.split(" ")),)
         if not is_history(history):
             raise BadText(number)
     return history
@@ -49,13 +49,12 @@ def lines_of(text):
     return text.split("\n")
 
 
-def read_rows(words):
-    """Return the rows that these words are, or None."""
+def read_version(words):
+    """Return the version that these words are, or None."""
     if words == ["-"]:
         return ()
-    if len(words) == 0 or not all([is_row(word) for word in words]):
-        return None
-    return tuple(words)
+    version = tuple(words)
+    return version if len(version) > 0 and is_version(version) else None
 
 
 def read_number(word, most_digits):
@@ -70,25 +69,25 @@ def read_number(word, most_digits):
 def read_list(line):
     """Return the version of a line with the list, or None."""
     words = line.split(" ")
-    rows = read_rows(words[1:])
-    return rows if words[0] == "list" and is_version(rows) else None
+    return read_version(words[1:]) if words[0] == "list" else None
 
 
 def read_orders(version, lines):
     """Return the stored orders of this list up to the first line that has none."""
     orders = ()
     for line in lines:
-        words = line.split(" ")
-        order = read_rows(words[1:])
-        if words[0] != "order" or not is_order(version, order) or order in orders:
+        order = read_order(line)
+        if order is None or order in orders or not is_subset(order, version):
             return orders
         orders = orders + (order,)
     return orders
 
 
-def is_order(version, rows):
-    """Return whether what was read is a tuple of distinct rows of the version, at least one."""
-    return is_version(rows) and len(rows) > 0 and is_subset(rows, version)
+def read_order(line):
+    """Return the rows of a line with an order, which are distinct and at least one, or None."""
+    words = line.split(" ")
+    order = read_version(words[1:])
+    return order if words[0] == "order" and order != () else None
 
 
 def read_next(line):
